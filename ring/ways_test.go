@@ -4,6 +4,7 @@ import (
 	"go/ast"
 	"go/parser"
 	"go/token"
+	"math"
 	"reflect"
 	"sync"
 	"testing"
@@ -71,12 +72,32 @@ func TestWaysReckonedOnce(t *testing.T) {
 	}
 }
 
-// Most asks what was kept, not anew each time.
-func TestWaysMostIsTheKeptLimit(t *testing.T) {
-	was := Most()
-	defer func() { batch.most = was }()
+// TestWaysMostAsksTheLimit: Most has the limit reckoned, by the first asking alone.
+func TestWaysMostAsksTheLimit(t *testing.T) {
+	defer func() { batch = limit{} }()
+	batch = limit{}
+	Need(44)
+	Pack([]int{44})
+	if batch.most != 0 {
+		t.Errorf("the limit is %d ahead of its being asked for", batch.most)
+	}
+	if Most() != 44 || batch.most != 44 {
+		t.Errorf("Most doesn't ask the limit, which is %d", batch.most)
+	}
 	batch.most = 7
-	if Most() != 7 {
-		t.Errorf("Most reckons a second time: %d", Most())
+	if Most(); batch.most != 7 {
+		t.Errorf("the limit was reckoned a second time: %d", batch.most)
+	}
+}
+
+// TestNoAnswerHangsOnTheLimit: Most and Pack work their answers out by a function, whatever is kept.
+func TestNoAnswerHangsOnTheLimit(t *testing.T) {
+	defer func() { batch = limit{} }()
+	for _, kept := range []int{math.MinInt, -1, 0, 7, 43, 45, 96, math.MaxInt} {
+		Most()
+		batch.most = kept
+		if most, packed := Most(), Pack([]int{43, 1, 0, 1}); most != 44 || packed != 3 {
+			t.Errorf("with %d kept, Most is %d, and Pack %d", kept, most, packed)
+		}
 	}
 }
