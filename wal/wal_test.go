@@ -728,6 +728,22 @@ func TestReplacedP15_3(t *testing.T) {
 	has(t, b, 1, 4, full(0))
 }
 
+// TestReplacedAndCutP15_3: that is so too if the power fails in a next Commit that comes to no mark.
+func TestReplacedAndCutP15_3(t *testing.T) {
+	b := bay.New(4, 164)
+	l := New(b)
+	b.Member(1).Fail()
+	commits(t, l, []record.Write{w(1, 5, 'x'), w(2, 5, 'y')}, api.OK, 1)
+	b.Member(1).Replace()
+	b.Cut(3)
+	commits(t, l, []record.Write{w(1, 6, 'z')}, api.ErrPower, 1)
+	b.Crash()
+	has(t, b, 1, 105, full(0))
+	recovers(t, l, true, api.OK, 1, false)
+	has(t, b, 1, 105, full('x'))
+	has(t, b, 1, 106, full(0))
+}
+
 // disks are what all live members have beside marks and the ring: the dead ones' are empty.
 func disks(b *bay.Bay) [][]string {
 	all := make([][]string, b.Size())
